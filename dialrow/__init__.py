@@ -1,0 +1,1 @@
+"""Dialrow: rows of dials turned by stretches."""
