@@ -1,1 +1,1 @@
-"""Dialrow: rows of dials turned by stretches."""
+"""Dialrow: rows of dials turned by stretches, and the fewest steps from row to row."""

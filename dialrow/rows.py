@@ -37,13 +37,22 @@ def is_deed(dials, thing):
     return 0 <= first < end <= dials and steps != 0
 
 
+def are_deeds(dials, things):
+    """Tell whether each of a list of things is a deed of so many dials."""
+    return all(is_deed(dials, thing) for thing in things)
+
+
 def check_deeds(dials, deeds):
     """Raise BadDeeds if they are no deeds of so many dials."""
     if not isinstance(deeds, list):
         raise BadDeeds("deeds are a list")
-    for deed in deeds:
-        if not is_deed(dials, deed):
-            raise BadDeeds("a deed is a tuple of a dial's count, a greater end within the dials, and steps, not 0")
+    if not are_deeds(dials, deeds):
+        raise BadDeeds("a deed is a tuple of a dial's count, a greater end within the dials, and steps, not 0")
+
+
+def steps_of(deeds):
+    """Tell how many steps the deeds take together, forth or back."""
+    return sum(abs(steps) for first, end, steps in deeds)
 
 
 def turned(size, row, deeds):
